@@ -1,0 +1,1 @@
+"""Everyorder: programs that tell every order once."""
