@@ -27,6 +27,11 @@ def joined(first, second):
     check_row(second)
     if len(first) != len(second):
         raise BadSize(len(second))
+    return in_turn(first, second)
+
+
+def in_turn(first, second):
+    """Return what joined does, of rows that are known to be rearrangements of one size."""
     return [first[place] for place in second]
 
 
@@ -49,21 +54,37 @@ def done(row, things):
 
 def repeated(row, many):
     """Return what the rearrangement does if it is done many times; taken back, if many is negative."""
-    told = rings(row)
+    check_row(row)
     if not is_integer(many):
         raise BadNumber(many)
-    result = list(row)
-    for ring in told:
-        # A ring comes round after as many times as it has places, so many may be of any size.
-        ahead = many % len(ring)
+    seats = seats_of(row)
+    return [led(seats, place, many) for place in range(len(row))]
+
+
+def seats_of(row):
+    """Return for each place its ring and its index in it; the row is known to be a rearrangement."""
+    seats = [None] * len(row)
+    for ring in rings_in(row):
         for index, place in enumerate(ring):
-            result[place] = ring[(index + ahead) % len(ring)]
-    return result
+            seats[place] = (ring, index)
+    return seats
+
+
+def led(seats, place, many):
+    """Return the place from which a place gets its thing if the rearrangement with these seats is done many times."""
+    ring, index = seats[place]
+    # A ring comes round after as many times as it has places, so many may be of any size.
+    return ring[(index + many) % len(ring)]
 
 
 def rings(row):
     """Return the rings as tuples, in the order of their least places, with which they begin."""
     check_row(row)
+    return rings_in(row)
+
+
+def rings_in(row):
+    """Return what rings does, of a row that is known to be a rearrangement."""
     found = []
     is_told = [False] * len(row)
     for start in range(len(row)):
