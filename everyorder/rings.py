@@ -8,25 +8,25 @@ from everyorder.straights import ONE
 
 
 def forward_rows(rows):
-    """Return the runs with those that go backward taken place by place."""
+    """Return the runs as tuples (start, length, goal), with those that go backward taken place by place."""
     told = []
     for start, length, goal, way in rows:
         if way == 1:
-            told.append((start, length, goal, 1))
+            told.append((start, length, goal))
         else:
-            told.extend([(start + index, 1, goal - index, 1) for index in range(length)])
+            told.extend([(start + index, 1, goal - index) for index in range(length)])
     return told
 
 
 def cut_at(rows, place):
     """Return the forward runs, cut so that a place is a run of its own."""
     told = []
-    for start, length, goal, _ in rows:
+    for start, length, goal in rows:
         for low, high in ((start, place), (place, place + 1), (place + 1, start + length)):
             low = max(low, start)
             high = min(high, start + length)
             if low < high:
-                told.append((low, high - low, goal + low - start, 1))
+                told.append((low, high - low, goal + low - start))
     return told
 
 
@@ -42,11 +42,11 @@ def check_places(f, places):
 def cut_rows(rows, marked):
     """Return the rings of forward runs as tuples (many, marks, places); places that are marked are runs of their own.
 
-    A weight counts the marks where other straight numbers count x: no ring needs to know which of both it is.
+    All numbers are plain here, so the weights need no x: they count the marks in its place.
     """
-    size = sum([length for _, length, _, _ in rows])
+    size = sum([length for _, length, _ in rows])
     runs = []
-    for start, length, goal, _ in rows:
+    for start, length, goal in rows:
         weight = (1, 1) if start in marked else ONE
         runs.append(((0, start), (0, length), (0, goal), weight))
     cutting = Cutting((0, size), runs, 0)

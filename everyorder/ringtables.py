@@ -13,6 +13,8 @@ from everyorder.straights import ONE, Reach, for_rest, minus, value_at
 LEAST = 2
 # So many sizes are looked at one by one before all sizes are taken at once: most words fail early.
 FIRST_SIZES = 30
+# By how many halves there are: none, one, more. (The half of a block that reaches to the half goes by the rests by 4.)
+MODULI = (1, 2, 4)
 
 
 def runs_at(w, v, k):
@@ -43,8 +45,7 @@ def first_modulus(w, v):
     halves = w.text.count("half")
     if v is not None:
         halves = halves + v.text.count("half")
-    # The half of a block that reaches to the half goes by the rests by 4.
-    return (1, 2, 4)[min(halves, 2)]
+    return MODULI[min(halves, 2)]
 
 
 class Branch:

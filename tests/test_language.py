@@ -216,6 +216,26 @@ class ValueTest(unittest.TestCase):
                     if isinstance(node.value, str) and not any(node is each for each in docstrings):
                         self.assertNotIn("%", node.value, (path, node.lineno))
 
+    def test_generator_expressions(self):
+        """Where a class has an __eq__, they stand in list, tuple, dict and join alone."""
+        for name, node in nodes_of(ast.Call):
+            for part in node.args:
+                if isinstance(part, ast.GeneratorExp):
+                    told = getattr(node.func, "id", getattr(node.func, "attr", None))
+                    self.assertIn(told, ("list", "tuple", "dict", "join"), (name, node.lineno))
+
+    def test_sets(self):
+        """The package keeps no sets: it asks how many members one has, or for its members in order."""
+        told = [part for _, node in nodes_of(ast.Call) if getattr(node.func, "id", None) in ("len", "sorted")
+                for part in node.args]
+        for name, node in nodes_of((ast.Call, ast.Set, ast.SetComp)):
+            if not isinstance(node, ast.Call) or getattr(node.func, "id", None) in ("set", "frozenset"):
+                self.assertTrue(any(node is part for part in told), (name, node.lineno))
+
+    def test_what_is_added_to_in_place(self):
+        """What an operator runs changes nothing; the package does without such statements altogether."""
+        self.assertEqual(nodes_of((ast.AugAssign, ast.Global, ast.Nonlocal)), [])
+
     def test_is_beside_none_and_truth_alone(self):
         for name, node in nodes_of(ast.Compare):
             for sign, right in zip(node.ops, node.comparators):

@@ -7,8 +7,10 @@ from unittest import mock
 from everyorder.errors import BadNumber, BadSize, Mixed
 from everyorder.maps import joined, undone
 from everyorder.rings import is_one_ring, rings_of
-from everyorder.ringtables import RingTable, first_many, table_of
+from everyorder.ringtables import (RingTable, branches_of, first_in_branch, first_many, first_modulus, is_one_at,
+                                   many_turns, table_of)
 from everyorder.runs import MOST_SIZE, runs_of, wider_runs
+from everyorder.straights import value_at
 from everyorder.words import Word
 from helping import NO_INTEGERS, assert_raises
 from leveling import drawing
@@ -90,6 +92,10 @@ SEVERAL = (
     ("exchange 0 -1 then turn", "turn then exchange 1 -2"), ("roll 0 -1 1", "roll 0 -1 1"),
     ("roll 0 -1 3", "roll 0 -1 2"), ("roll 0 -1 5 then exchange 1 -1", "roll 1 half-2 3"), ("roll 4 9 2", "roll 3 8 5"),
     ("roll 0 -1 half", "exchange 2 -9"), ("exchange -1 half+9", "roll 0 -2 -8"), ("roll 0 half-9 4", "roll 0 -1 -9"),
+    # More halves than callers hand in.
+    ("roll 0 half half", None), ("roll 0 half half then roll half -1 half", "roll 1 half-1 2"),
+    ("roll 0 half-1 3 then exchange half -1", "roll half -1 half"), ("roll half half+1 1 then roll 0 half half", None),
+    ("turn then roll 0 half half", "roll half-1 -1 half then turn"), ("roll 0 -2 half", "roll 0 half+3 half"),
 )
 
 
@@ -154,6 +160,26 @@ class TableTest(unittest.TestCase):
                     told = told_by_lines(table, k)
                     self.assertEqual(told, table.at(k))
                     self.assertEqual(sum(many * places for many, places in told), k)
+
+    def test_each_branch_by_itself(self):
+        """Each part of a table is right from its own least size on, not only from the start of the table on."""
+        words = Draw(106)
+        several = [pair for pair in several_words() if many_turns(*pair) != 1]
+        for w, v in several + [words.pair(turns) for turns in ((False, None), (False, False), (True, True)) * 12]:
+            sizes = set()
+            for branch in branches_of(w, v, first_modulus(w, v), False):
+                for x in range(branch.low, branch.low + 3):
+                    k = branch.modulus * x + branch.rest
+                    self.assertGreaterEqual(k, 2)
+                    sizes.add(k)
+                    many = {}
+                    for rings, places in branch.found:
+                        told = value_at(places, x)
+                        many[told] = many.get(told, 0) + value_at(rings, x)
+                    walked = rings_by_walking(list_at(w, v, k)) if k <= 1000 else rings_of(runs_at(w, v, k))
+                    self.assertEqual([(many[places], places) for places in sorted(many)], walked, (w.text, k))
+            start = table_of(w, v).start
+            self.assertTrue(set(range(max(start, 2), start + 3)) <= sizes or min(sizes) > start)
 
     def test_all_places_of_one_roll(self):
         for first, last in itertools.product(("0", "5", "half-3", "-4"), ("-1", "half+2", "9", "1")):
@@ -240,6 +266,28 @@ class FirstManyTest(unittest.TestCase):
             for turns in itertools.product((False, True), (None, False, True)):
                 for _ in range(120):
                     self.hold(*words.pair(turns), 61)
+
+    def test_each_branch_by_itself(self):
+        """Whether there is one ring is right in each part, also where one word alone has a turn."""
+        words = Draw(107)
+        seen = set()
+        # With one turn there is seldom one ring at many sizes.
+        pairs = [(Word("turn then roll 1 half-1 1 then exchange 1 -1"), None),
+                 (Word("roll half-4 -2 5 then roll 0 -2 5 then turn"), None)]
+        for turns in itertools.product((False, True), (None, False, True)):
+            pairs.extend(words.pair(turns) for _ in range(12))
+        for w, v in pairs:
+            one_turn = many_turns(w, v) == 1
+            for branch in branches_of(w, v, 4, one_turn):
+                least = None
+                for x in range(branch.low, branch.low + 9):
+                    k = branch.modulus * x + branch.rest
+                    told = is_one_at(w, v, branch, x)
+                    self.assertIs(told, is_one_ring(runs_at(w, v, k)), (w.text, v and v.text, k))
+                    least = least if told or least else k
+                    seen.add((one_turn, k % 2, told))
+                self.assertEqual(first_in_branch(w, v, branch), least)
+        self.assertEqual(len(seen), 8)
 
     def test_rolls_of_all_places(self):
         for amount in FIGURES:
