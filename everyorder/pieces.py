@@ -61,7 +61,7 @@ def moved_at(move, size, reach):
     return stay(size)
 
 
-def led_on(piece, others, reach):
+def piece_led_on(piece, others, reach):
     """Return the pieces of a piece, if the goals that it had lead on as the others tell."""
     start, length, goal, way = piece
     low = goal if way == 1 else minus(plus(goal, ONE), length)
@@ -85,7 +85,7 @@ def joined_pieces(first, second, reach):
     """Return the pieces of what does first what the first ones tell, and then what the second ones tell."""
     rows = []
     for piece in second:
-        for start, length, goal, way in led_on(piece, first, reach):
+        for start, length, goal, way in piece_led_on(piece, first, reach):
             if rows and way == rows[-1][3] and goal == plus(rows[-1][2], times((0, way), rows[-1][1])):
                 rows[-1] = (rows[-1][0], plus(rows[-1][1], length), rows[-1][2], way)
             else:
