@@ -109,3 +109,13 @@ def is_one_ring(f):
     if f.size % 2 == 1:
         return told == [(1, f.size)]
     return told == [(2, f.size // 2)] and is_odd(f)
+
+
+def ring_either_way(f, j):
+    """Return of how many places the ring with a place is; the runs may also go backward."""
+    if f.way == 1:
+        return ring_at(f, j)
+    # Done twice, f goes forward. Then a ring of an even number of places becomes two, and f leads to the other one.
+    twice_done = f * f
+    many = ring_at(twice_done, j)
+    return many if in_one_ring(twice_done, j, f.at(j)) else 2 * many

@@ -61,16 +61,17 @@ class Stage:
 
 
 class Tower:
-    """The levels of a program up to a size.
+    """The levels of a program up to a size; if it is stopped at a size, the level of this size does nothing.
 
     What they do stands in `doings`, the things on their last places ahead of their calls in `lasts`, both by size.
     """
 
-    def __init__(self, program, size):
-        self.stages = [None, None]
-        self.doings = [[], [0]]
-        self.lasts = [(), (0,)]
-        for k in range(2, size + 1):
+    def __init__(self, program, size, stop=1):
+        self.stop = stop
+        self.stages = [None] * (stop + 1)
+        self.doings = [list(range(k)) for k in range(stop + 1)]
+        self.lasts = [()] * (stop + 1)
+        for k in range(stop + 1, size + 1):
             stage = Stage(k, program.level(k), self.doings[k - 1])
             self.stages.append(stage)
             self.doings.append(stage.whole_doing())
@@ -81,8 +82,8 @@ class Tower:
         return self.stages[k].ahead(call)
 
     def least_not_whole(self, high):
-        """Return the least size up to high whose level is not whole; None if there is none."""
-        for k in range(2, high + 1):
+        """Return the least size above the stop, up to high, whose level is not whole; None if there is none."""
+        for k in range(self.stop + 1, high + 1):
             if len(set(self.lasts[k])) < k:
                 return k
         return None

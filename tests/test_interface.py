@@ -4,6 +4,7 @@ import ast
 import pathlib
 import unittest
 
+from everyorder.always import failing
 from everyorder.programs import Level, Program
 from everyorder.ringtables import table_of
 from everyorder.runs import nothing_runs
@@ -47,6 +48,12 @@ FUNCTIONS = {
         "rings_of": ["f"], "ring_at": ["f", "j"], "in_one_ring": ["f", "i", "j"], "is_odd": ["f"], "is_one_ring": ["f"],
     },
     "ringtables": {"table_of": ["w", "v"], "first_many": ["w", "v"]},
+    "shapes": {"open_at": ["program"], "made_by": ["program", "k"], "is_whole": ["program", "k"]},
+    "always": {
+        "wrong_at": ["program"], "failing": ["program", "rest"], "parts_at": ["program", "h"],
+        "closing": ["program", "n"], "is_round": ["program", "n"],
+    },
+    "sizes": {},
 }
 CLASSES = {
     "errors": {
@@ -73,6 +80,9 @@ CLASSES = {
         },
     },
     "ringtables": {"RingTable": {"at": ["self", "k"], "lines": ["self", "r"]}},
+    "sizes": {"Sizes": {"__eq__": ["self", "other"], "__contains__": ["self", "x"], "next_from": ["self", "low"]}},
+    "shapes": {},
+    "always": {},
 }
 # What each object has from the beginning: a call that makes one, and the names.
 ATTRIBUTES = (
@@ -82,6 +92,7 @@ ATTRIBUTES = (
     (lambda: Double(4, 1, 3), "size first again"),
     (lambda: nothing_runs(3), "size rows way"),
     (lambda: table_of(Word("roll 0 -1 1")), "modulus start"),
+    (lambda: failing(Program("period 1\nrest 0 same turn"), 0), "start period rests early least"),
 )
 # The arguments that may be left out, for each with what then holds.
 DEFAULTS = {("ringtables", "table_of"): "None", ("ringtables", "first_many"): "None"}
