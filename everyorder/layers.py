@@ -124,7 +124,7 @@ def runs_done(program, k):
 
 
 def runs_between(program, k):
-    """Return what a same level of size k, from 14 on, does from call to call; None if the level beneath is not whole."""
+    """Return what a same level of size k, from 14 on, does from call to call; None if what is beneath is not whole."""
     beneath = runs_done(program, k - 1)
     return None if beneath is None else wider_runs(beneath) * runs_of(program.level(k).word, k)
 

@@ -22,7 +22,8 @@ RIGHT_RESTS = (
     ("same roll 0 -1 -1 to the end", "same roll 0 -1 half"),
     ("same roll 0 -1 -1 to the end", "same roll 1 -1 1 then exchange 0 1"),
     ("same roll 0 -1 2", "same roll 0 -1 1 to the end", "along 1 0 to the end"),
-    ("same roll 0 half 1 then roll half -1 1 to the end", "same roll 0 -1 1 to the end", "same roll 0 -1 -1 to the end"),
+    ("same roll 0 half 1 then roll half -1 1 to the end", "same roll 0 -1 1 to the end",
+     "same roll 0 -1 -1 to the end"),
 )
 
 
@@ -172,7 +173,8 @@ def fails_by(number, draw):
 
     Returned with this rest: 5 if such levels can fail there, and otherwise 0.
     """
-    first, second = draw.choice([(a, b) for a in range(-9, 10) for b in range(-9, 10) if a * b and abs(a + b) == number])
+    amounts = [amount for amount in range(-9, 10) if amount]
+    first, second = draw.choice([(a, b) for a in amounts for b in amounts if abs(a + b) == number])
     rests = ["same roll 0 -1 1 to the end"] * 6
     rest = 5 if any(gcd(k, number) > 1 for k in range(5, 600, 6)) else 0
     rests[rest] = f"same roll 0 -1 {first} then roll 0 -1 {second} to the end"
@@ -192,7 +194,7 @@ def whole_list(draw, k, beneath):
 
 
 def mended_plain(draw, plain, tries=40):
-    """The program with lists in the place of levels to 12 that are not whole, if it can be so that level 13 is whole."""
+    """The program with lists in the place of levels to 12 that are not whole; if it can be, level 13 is whole, too."""
     for _ in range(tries):
         told = Plain(plain.rests, plain.singles)
         doing = [0]

@@ -229,7 +229,8 @@ class FailingTest(unittest.TestCase):
             told = self.hold(plain, rest, range(14, 120))
             for k in (*range(18, 1000, 6), *(6 * draw.randint(10 ** 20, 10 ** 29) for _ in range(20))):
                 self.assertIs(k + rest in told, gcd(k + rest, number) > 1)
-            self.assertTrue(all(failing(Program(plain.text), other).least is None for other in range(6) if other != rest))
+            others = [failing(Program(plain.text), other).least for other in range(6) if other != rest]
+            self.assertEqual(others, [None] * 5)
 
     def test_behind_the_sizes_of_runs(self):
         told = failing(Program(text_of(HALVES)), 0)

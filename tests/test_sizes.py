@@ -71,8 +71,8 @@ class LeastTest(unittest.TestCase):
             for low in (-10 ** 30, 0, 13, 14, 15, sizes.start - 1, sizes.start, sizes.start + sizes.period - 1, *FAR,
                         *sizes.early, *range(16, 40)):
                 after = sizes.next_from(low)
-                behind = next((k for k in range(max(low, 14), max(low, sizes.start) + sizes.period) if k in sizes), None)
-                self.assertEqual(after, behind)
+                high = max(low, sizes.start) + sizes.period
+                self.assertEqual(after, next((k for k in range(max(low, 14), high) if k in sizes), None))
         self.assertEqual(len(seen), 4)
 
 
