@@ -85,14 +85,19 @@ def pieces_exchanged(ruling, size, reach):
     return wider_pieces(moved_at(ruling.word.moves[0], size, reach), size)
 
 
+def exchanged_ends(ruling, size, reach):
+    """Return the pieces of the first step of an along level of a straight size; the step at the end is the same."""
+    last = minus(size, ONE)
+    start = place_at(ruling.place, size)
+    return exchanged_at(size, minus(start, times(reach.quotient(start, last), last)), last)
+
+
 def along_pieces(ruling, beneath, size, parity, reach):
     """Return the pieces of what a whole along level of a straight size does."""
     last = minus(size, ONE)
-    start = place_at(ruling.place, size)
-    start = minus(start, times(reach.quotient(start, last), last))
     # The places but the last one get their things as the calls follow one another, the first call's from the end.
     rolled = rolled_at(size, ZERO, minus(last, ONE), str(ruling.factor), reach)
-    ends = exchanged_at(size, start, last)
+    ends = exchanged_ends(ruling, size, reach)
     told = joined_pieces(rolled, ends, reach)
     below = pieces_exchanged(beneath, last, reach)
     if parity == 0:

@@ -118,6 +118,14 @@ def wider_pieces(pieces, size):
     return [*pieces, (size, ONE, size, 1)]
 
 
+def is_nothing(pieces, reach):
+    """Tell whether pieces, none of which has no places, move nothing."""
+    for start, length, goal, way in pieces:
+        if reach.sign(minus(goal, start)) != 0 or (way == -1 and reach.is_less(ONE, length)):
+            return False
+    return True
+
+
 def forward_pieces(pieces):
     """Return tuples (start, length, goal), with what goes backward, which must not grow, taken place by place."""
     told = []

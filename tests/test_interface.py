@@ -5,6 +5,7 @@ import pathlib
 import unittest
 
 from everyorder.always import failing
+from everyorder.bench import Bench
 from everyorder.programs import Level, Program
 from everyorder.ringtables import table_of
 from everyorder.runs import nothing_runs
@@ -54,6 +55,16 @@ FUNCTIONS = {
         "closing": ["program", "n"], "is_round": ["program", "n"],
     },
     "sizes": {},
+    "alike": {"parting": ["one", "other", "n"], "alike": ["one", "other"]},
+    "mends": {
+        "nearest": ["program", "k"], "is_right": ["program", "k", "entries"], "right_lists": ["k"],
+        "mended": ["program", "n"],
+    },
+    "counts": {
+        "calls_of": ["n", "k"], "steps_done": ["program", "n"], "exchanges": ["program", "n", "x", "y"],
+        "changes": ["program", "n"], "most_changed": ["program", "n"],
+    },
+    "bench": {},
 }
 CLASSES = {
     "errors": {
@@ -83,6 +94,17 @@ CLASSES = {
     "sizes": {"Sizes": {"__eq__": ["self", "other"], "__contains__": ["self", "x"], "next_from": ["self", "low"]}},
     "shapes": {},
     "always": {},
+    "alike": {},
+    "mends": {},
+    "counts": {},
+    "bench": {
+        "Bench": {
+            "__init__": ["self", "program", "n"], "__len__": ["self"], "__eq__": ["self", "other"],
+            "on": ["self", "many"], "back": ["self", "many"], "to": ["self", "at"], "take": ["self", "program"],
+            "undo": ["self"], "next_rows": ["self", "many"], "until": ["self", "row"], "page": ["self"],
+            "read": ["cls", "page"],
+        },
+    },
 }
 # What each object has from the beginning: a call that makes one, and the names.
 ATTRIBUTES = (
@@ -93,6 +115,7 @@ ATTRIBUTES = (
     (lambda: nothing_runs(3), "size rows way"),
     (lambda: table_of(Word("roll 0 -1 1")), "modulus start"),
     (lambda: failing(Program("period 1\nrest 0 same turn"), 0), "start period rests early least"),
+    (lambda: Bench(Program("period 1\nrest 0 same turn"), 3), "program size row number"),
 )
 # The arguments that may be left out, for each with what then holds.
 DEFAULTS = {("ringtables", "table_of"): "None", ("ringtables", "first_many"): "None"}
@@ -139,6 +162,15 @@ class InterfaceTest(unittest.TestCase):
         level = [node for node in tree_of("programs").body if isinstance(node, ast.ClassDef) and node.name == "Level"]
         made = [node for node in level[0].body if isinstance(node, ast.FunctionDef) and node.name == "__init__"]
         self.assertEqual([ast.unparse(each) for each in made[0].args.defaults], ["None"])
+
+    def test_deeds_go_by_one_order_if_nothing_is_told(self):
+        told = [node for node in tree_of("bench").body if isinstance(node, ast.ClassDef)][0]
+        defaults = {node.name: [ast.unparse(each) for each in node.args.defaults] for node in told.body
+                    if isinstance(node, ast.FunctionDef) and node.args.defaults}
+        self.assertEqual(defaults, {"on": ["1"], "back": ["1"]})
+        kinds = {node.name: [ast.unparse(each) for each in node.decorator_list] for node in told.body
+                 if isinstance(node, ast.FunctionDef) and node.decorator_list}
+        self.assertEqual(kinds, {"page": ["property"], "read": ["classmethod"]})
 
     def test_told_from_is_a_generator(self):
         told = [node for node in tree_of("orders").body if isinstance(node, ast.FunctionDef)
