@@ -20,8 +20,8 @@ def first_wrong(program, stop):
     """
     open_size = open_from(program, stop + 2)
     high = max(FIRST_SIZES, stop + 2) if open_size is None else open_size - 1
-    tower = Tower(program, high, stop)
-    k = tower.least_not_whole(high)
+    tower = Tower(stop)
+    k = tower.least_not_whole(program, high)
     if k is not None:
         return double_of(tower.lasts[k])
     if open_size is not None:

@@ -30,12 +30,7 @@ def exchanging_steps(ruling, k, low, high):
         return ruling.many_steps(k) if is_exchange else 0
     if high < k - 1:
         return 0
-    return partners_of(ruling, k, ruling.many_steps(k)).count(low)
-
-
-def partners_of(ruling, k, many):
-    """Return the places that the first steps of a level exchange with the last one."""
-    return [ruling.partner(k, call) for call in range(many)]
+    return ruling.partners(k, ruling.many_steps(k)).count(low)
 
 
 def exchanges(program, n, x, y):
@@ -65,7 +60,7 @@ def moved_by_steps(ruling, k, ending):
         return [many_moved(in_turn(ending, ruling.word.at(k)))] * (k - 1)
     moved = many_moved(ending)
     # The thing of the last place comes to the other one, and what the ending brings there to the last place.
-    return [moved + (2 if ending[place] == place else 1) for place in partners_of(ruling, k, k - 1)]
+    return [moved + (2 if ending[place] == place else 1) for place in ruling.partners(k, k - 1)]
 
 
 def changes(program, n):

@@ -149,7 +149,7 @@ def double_far(program, k):
     if ruling.kind == "same":
         return Double(k, 0, ring_either_way(runs_between(program, k), k - 1))
     pair = places_exchanged(program.level(k - 1), k - 1)
-    sources = [ruling.partner(k, call) for call in range(k - 1)]
+    sources = ruling.partners(k, k - 1)
     for call in range(0, k - 1, 2):
         if sources[call] in pair:
             sources[call] = sum(pair) - sources[call]

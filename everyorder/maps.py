@@ -38,6 +38,11 @@ def in_turn(first, second):
 def undone(row):
     """Return the rearrangement that takes this one back."""
     check_row(row)
+    return back_from(row)
+
+
+def back_from(row):
+    """Return what undone does, of a row that is known to be a rearrangement."""
     back = list(row)
     for index, place in enumerate(row):
         back[place] = index

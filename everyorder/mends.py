@@ -6,7 +6,7 @@ from everyorder.checks import is_between
 from everyorder.errors import BadRow, BadSize, NoList
 from everyorder.maps import led, seats_of
 from everyorder.programs import MOST_SINGLE, Program
-from everyorder.towers import Tower, check_size
+from everyorder.towers import check_size, tower_of
 
 LEAST = 2
 
@@ -23,7 +23,7 @@ def sources_of(seats, entries):
 
 def seats_beneath(program, k):
     """Return the seats of what level k - 1 does."""
-    return seats_of(Tower(program, k - 1).doings[k - 1])
+    return seats_of(tower_of(program, k - 1).doings[k - 1])
 
 
 def changed(sources):
@@ -46,7 +46,7 @@ def nearest(program, k):
     ruling = program.level(k)
     if not goes_by_list(ruling):
         raise NoList(k)
-    entries = [ruling.partner(k, call) for call in range(k - 1)]
+    entries = ruling.partners(k, k - 1)
     seats = seats_beneath(program, k)
     changes = 0
     for call, source in enumerate(changed(sources_of(seats, entries))):
@@ -85,7 +85,7 @@ def mended(program, n):
     told = Program(program.text)
     for k in range(LEAST, n + 1):
         # The levels beneath are whole by now.
-        if Tower(told, k).least_not_whole(k) is not None:
+        if told.tower.least_not_whole(told, k) is not None:
             entries = nearest(told, k)[1]
             told = told.with_level(k, " ".join(["list", *[str(place) for place in entries]]))
     return told

@@ -3,11 +3,9 @@
 A number is taken apart into the numbers of the calls in which its row is told, one call of each level.
 """
 
-from math import factorial
-
 from everyorder.checks import first_wrong, is_between
 from everyorder.errors import BadNumber, BadRow
-from everyorder.maps import done, undone
+from everyorder.maps import back_from
 
 
 def check_number(number, low, high):
@@ -25,18 +23,27 @@ def check_order(row, n):
         raise BadRow(len(row))
 
 
+def calls_of_number(n, number):
+    """Return by sizes, from 2 on, the calls in which the row with a number is told."""
+    calls = [0, 0]
+    for k in range(2, n + 1):
+        number, call = divmod(number, k)
+        calls.append(call)
+    return calls
+
+
 def row_at(tower, n, number):
     """Return the row with a number."""
+    calls = calls_of_number(n, number)
     row = list(range(n))
     for k in range(n, 1, -1):
-        call, number = divmod(number, factorial(k - 1))
-        row[:k] = done(tower.ahead(k, call), row[:k])
+        tower.stages[k].lead(row, calls[k])
     return row
 
 
 def row_in_call(tower, k, call, row):
     """Return the row of k things that is told in a call of level k, as the level beneath tells it."""
-    back = undone(tower.ahead(k, call))
+    back = back_from(tower.ahead(k, call))
     return [back[thing] for thing in row[:k - 1]]
 
 

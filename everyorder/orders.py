@@ -3,33 +3,31 @@
 from math import factorial
 
 from everyorder.numbering import check_number, check_order, number_of, row_at, row_in_call, steps_behind
-from everyorder.towers import Tower, check_size
+from everyorder.towers import check_size, tower_of, whole_tower
 
 
 def order(program, n, i):
     """Return the row with the number i."""
     check_size(n, 1)
     check_number(i, 0, factorial(n) - 1)
-    return row_at(Tower(program, n), n, i)
+    return row_at(tower_of(program, n), n, i)
 
 
 def number(program, n, row):
     """Return the number of a row."""
     check_size(n, 1)
     check_order(row, n)
-    tower = Tower(program, n)
-    tower.check_whole(n)
-    return number_of(tower, n, row)
+    return number_of(whole_tower(program, n), n, row)
 
 
 def numbers(program, n, row):
     """Return all numbers with which a row is told, ascending; level n need not be whole."""
     check_size(n, 1)
     check_order(row, n)
-    tower = Tower(program, n)
-    tower.check_whole(n - 1)
+    whole_tower(program, n - 1)
     if n == 1:
         return (0,)
+    tower = tower_of(program, n)
     rows = factorial(n - 1)
     return tuple([call * rows + number_of(tower, n - 1, row_in_call(tower, n, call, row))
                   for call, thing in enumerate(tower.lasts[n]) if thing == row[n - 1]])

@@ -3,6 +3,7 @@
 from everyorder.checks import is_between, is_from, is_integer
 from everyorder.errors import BadCall, BadNumber, BadSize, BadText, BadWord, NoLevel
 from everyorder.maps import MOST_PLACES
+from everyorder.towers import Tower
 from everyorder.words import (AMOUNT_FRONTS, NO_PART, Word, exchanged, is_figure_behind, is_place_word, place_of,
                               read_moves)
 
@@ -111,6 +112,13 @@ class Level:
             return (self.factor * i + place_of(self.place, k)) % (k - 1)
         return self.entries[i]
 
+    def partners(self, k, many):
+        """Return the places that the first steps exchange with the last one; the level is not of kind same."""
+        if self.kind == "list":
+            return list(self.entries[:many])
+        start = place_of(self.place, k)
+        return [(self.factor * call + start) % (k - 1) for call in range(many)]
+
     def step(self, k, i):
         """Return the step behind call i as a rearrangement."""
         if not is_between(k, 2, MOST_PLACES):
@@ -188,6 +196,8 @@ class Program:
         self.rests = read_rests(lines, self.period)
         self._singles = read_singles(lines, self.period + 1)
         self.sizes = tuple(self._singles)
+        # The levels never change, so what they do need be worked out only once.
+        self.tower = Tower()
 
     def __eq__(self, other):
         return isinstance(other, Program) and self.text == other.text

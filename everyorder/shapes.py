@@ -6,7 +6,7 @@ from everyorder.fails import least_failing
 from everyorder.layers import MOST_LISTED, is_whole_far, open_from, runs_done
 from everyorder.runs import MOST_SIZE, nothing_runs, runs_of_list
 from everyorder.tells import does, lasts
-from everyorder.towers import MOST_LEVELS, Tower
+from everyorder.towers import MOST_LEVELS, whole_tower
 
 LEAST = 2
 
@@ -21,7 +21,7 @@ def check_closed(program, k):
 def check_all_whole(program, k):
     """Raise NotWhole if not all levels to k are whole; all sizes to k are closed."""
     listed = min(k, MOST_LEVELS)
-    Tower(program, listed).check_whole(listed)
+    whole_tower(program, listed)
     # A program that is closed so far is closed altogether.
     size = least_failing(program, listed + 1) if listed < k else None
     if size is not None and size <= k:

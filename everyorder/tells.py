@@ -5,7 +5,7 @@ from math import factorial
 from everyorder.checks import is_between
 from everyorder.errors import BadCall
 from everyorder.numbering import number_of, row_in_call
-from everyorder.towers import Tower, check_size
+from everyorder.towers import check_size, tower_of
 
 
 class Double:
@@ -32,25 +32,19 @@ def double_of(things):
     return None
 
 
-def double_in(tower, n):
-    """Return the Double of the least level up to n that is not whole; None if there is none."""
-    k = tower.least_not_whole(n)
-    return None if k is None else double_of(tower.lasts[k])
-
-
 def double(program, n):
     """Return the least size to n whose level is not whole, with the two calls; None if all are whole."""
     check_size(n, 1)
-    return double_in(Tower(program, n), n)
+    k = program.tower.least_not_whole(program, n)
+    return None if k is None else double_of(program.tower.lasts[k])
 
 
 def twice(program, n):
     """Return the numbers of the first row that has been told before; None if there is none."""
-    check_size(n, 1)
-    tower = Tower(program, n)
-    found = double_in(tower, n)
+    found = double(program, n)
     if found is None:
         return None
+    tower = program.tower
     k = found.size
     rows = factorial(k - 1)
     # The levels beneath are whole, so the earlier call tells the first row of the later one just once.
@@ -61,7 +55,7 @@ def twice(program, n):
 def does(program, k):
     """Return what one call of level k does as a whole."""
     check_size(k, 1)
-    return list(Tower(program, k).doings[k])
+    return list(tower_of(program, k).doings[k])
 
 
 def before(program, k, d):
@@ -69,10 +63,10 @@ def before(program, k, d):
     check_size(k, 2)
     if not is_between(d, 0, k - 1):
         raise BadCall(d)
-    return Tower(program, k).ahead(k, d)
+    return tower_of(program, k).ahead(k, d)
 
 
 def lasts(program, k):
     """Return the things on place k - 1 ahead of the calls of level k, as a tuple."""
     check_size(k, 2)
-    return Tower(program, k).lasts[k]
+    return tower_of(program, k).lasts[k]

@@ -9,7 +9,7 @@ from math import factorial
 from everyorder.checks import is_between
 from everyorder.errors import BadPlace, BadThing
 from everyorder.numbering import check_number
-from everyorder.towers import Tower, check_size
+from everyorder.towers import check_size, whole_tower
 
 
 def check_thing(thing, n):
@@ -24,13 +24,6 @@ def check_place_and_thing(n, place, thing):
     if not is_between(place, 0, n - 1):
         raise BadPlace(place)
     check_thing(thing, n)
-
-
-def whole_tower(program, n):
-    """Return the levels up to n; raise NotWhole if not all are whole."""
-    tower = Tower(program, n)
-    tower.check_whole(n)
-    return tower
 
 
 def many_at(tower, n, place, thing, i):

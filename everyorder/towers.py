@@ -2,7 +2,7 @@
 
 from everyorder.checks import is_between
 from everyorder.errors import BadSize, NotWhole
-from everyorder.maps import led, in_turn, seats_of
+from everyorder.stages import stage_of
 
 # The greatest size whose levels are worked out as lists.
 MOST_LEVELS = 100
@@ -14,82 +14,54 @@ def check_size(size, low):
         raise BadSize(size)
 
 
-class Stage:
-    """A level of one size, standing on what the level beneath does.
-
-    In a level that does a word, the same is done from each call to the next one: `seats` are the seats of this. In a
-    level that exchanges, the exchanges of the last place with the `sources` of the steps stand ahead of all calls, and
-    behind them what the level beneath does, as often as it has been called: `seats` are the seats of this. The source
-    of a step is the place at the beginning of the level from which the thing comes that the step brings to the end.
-    """
-
-    def __init__(self, size, ruling, beneath):
-        self.size = size
-        self.beneath = [*beneath, size - 1]
-        self.step_count = ruling.many_steps(size)
-        self.sources = []
-        if ruling.kind == "same":
-            self.seats = seats_of(in_turn(self.beneath, ruling.word.at(size)))
-        else:
-            self.seats = seats_of(self.beneath)
-            self.sources = [led(self.seats, ruling.partner(size, call), call + 1) for call in range(self.step_count)]
-
-    def ahead(self, call):
-        """Return what has been done ahead of a call: the calls before it, each with its step."""
-        row = list(range(self.size))
-        for source in self.sources[:call]:
-            row[source], row[-1] = row[-1], row[source]
-        return [row[led(self.seats, place, call)] for place in range(self.size)]
-
-    def whole_doing(self):
-        """Return what all calls and all steps do."""
-        if self.step_count == self.size:
-            return self.ahead(self.size)
-        return in_turn(self.ahead(self.size - 1), self.beneath)
-
-    def last_things(self):
-        """Return the things on the last place ahead of the calls, as a tuple."""
-        last = self.size - 1
-        if not self.sources:
-            return tuple([led(self.seats, last, call) for call in range(self.size)])
-        row = list(range(self.size))
-        things = [last]
-        for source in self.sources[:last]:
-            row[source], row[-1] = row[-1], row[source]
-            things.append(row[-1])
-        return tuple(things)
-
-
 class Tower:
     """The levels of a program up to a size; if it is stopped at a size, the level of this size does nothing.
 
     What they do stands in `doings`, the things on their last places ahead of their calls in `lasts`, both by size.
     """
 
-    def __init__(self, program, size, stop=1):
-        self.stop = stop
+    def __init__(self, stop=1):
         self.stages = [None] * (stop + 1)
-        self.doings = [list(range(k)) for k in range(stop + 1)]
+        self.doings = [[]] * stop + [list(range(stop))]
         self.lasts = [()] * (stop + 1)
-        for k in range(stop + 1, size + 1):
-            stage = Stage(k, program.level(k), self.doings[k - 1])
-            self.stages.append(stage)
-            self.doings.append(stage.whole_doing())
-            self.lasts.append(stage.last_things())
+        # The least size above the stop whose level is not whole, as far as the tower goes.
+        self.wrong = None
+
+    def grow(self, program, size):
+        """Go on with the levels of the program up to a size; what is there already stays."""
+        while len(self.stages) <= size:
+            self.add_level(program)
+
+    def add_level(self, program):
+        """Go on by a level."""
+        k = len(self.stages)
+        stage = stage_of(k, program.level(k), self.doings[k - 1])
+        self.stages.append(stage)
+        self.doings.append(stage.doing)
+        self.lasts.append(stage.lasts)
+        if self.wrong is None and not stage.is_whole:
+            self.wrong = k
 
     def ahead(self, k, call):
         """Return what level k, from 2 on, has done ahead of a call."""
         return self.stages[k].ahead(call)
 
-    def least_not_whole(self, high):
+    def least_not_whole(self, program, high):
         """Return the least size above the stop, up to high, whose level is not whole; None if there is none."""
-        for k in range(self.stop + 1, high + 1):
-            if len(set(self.lasts[k])) < k:
-                return k
-        return None
+        while self.wrong is None and len(self.stages) <= high:
+            self.add_level(program)
+        return None if self.wrong is None or self.wrong > high else self.wrong
 
-    def check_whole(self, high):
-        """Raise NotWhole if not all levels up to high are whole."""
-        k = self.least_not_whole(high)
-        if k is not None:
-            raise NotWhole(k)
+
+def tower_of(program, size):
+    """Return the tower of a program, which goes to this size at least."""
+    program.tower.grow(program, size)
+    return program.tower
+
+
+def whole_tower(program, size):
+    """Return the tower of a program, which goes to this size at least; raise NotWhole if not all levels are whole."""
+    k = program.tower.least_not_whole(program, size)
+    if k is not None:
+        raise NotWhole(k)
+    return program.tower
