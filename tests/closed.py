@@ -181,6 +181,13 @@ def fails_by(number, draw):
     return Plain(rests, {}), rest
 
 
+def fails_late(number, draw):
+    """The same, with single levels, so that no level to 13 fails."""
+    plain, rest = fails_by(number, draw)
+    plain.singles = {size: "same roll 0 -1 1 to the end" for size in range(2, 13) if size % 6 == rest}
+    return plain, rest
+
+
 def whole_list(draw, k, beneath):
     """A list with which a level is whole on what the level beneath does."""
     goals = list(range(k - 1))

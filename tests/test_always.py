@@ -3,9 +3,11 @@
 import itertools
 import unittest
 from math import factorial, gcd
+from unittest import mock
 
 from everyorder.always import closing, failing, is_round, parts_at, wrong_at
 from everyorder.errors import BadNumber, BadSize, NotClosed, NotWhole
+from everyorder.layers import double_far
 from everyorder.programs import Program
 from everyorder.rings import is_one_ring, rings_of
 from everyorder.ringtables import table_of
@@ -13,8 +15,8 @@ from everyorder.runs import Runs, exchange_runs, nothing_runs, runs_of, wider_ru
 from everyorder.shapes import is_whole, made_by
 from everyorder.tells import Double, double
 from everyorder.words import Word
-from closed import (PLACES, FarLevels, closed_plain, fails_by, far_word, mended_plain, plain_open_at, right_plains,
-                    stopped_levels, undone_list)
+from closed import (PLACES, FarLevels, closed_plain, fails_by, fails_late, far_word, last_things, mended_plain,
+                    plain_open_at, right_plains, stopped_levels, undone_list)
 from helping import NO_INTEGERS, assert_raises
 from leveling import FACTORS, Plain, drawing, many_steps_of, plain_of, split_level, step_of
 from running import list_of, rings_by_walking
@@ -123,10 +125,7 @@ class WrongTest(unittest.TestCase):
         draw = drawing(234)
         late = set()
         for number in range(9, 19):
-            plain, rest = fails_by(number, draw)
-            for size in range(2, 13):
-                if size % 6 == rest:
-                    plain.singles[size] = "same roll 0 -1 1 to the end"
+            plain, rest = fails_late(number, draw)
             told = wrong_at(Program(plain.text))
             least = next(k for k in range(14, 200) if k % 6 == rest and gcd(k, number) > 1)
             self.assertEqual(told.size, least)
@@ -143,6 +142,41 @@ class WrongTest(unittest.TestCase):
             self.assertEqual(wrong_at(program), told)
             self.assertEqual(wrong_at(Program(plain.text)), told)
             self.assertEqual((program.text, program), (plain.text, Program(plain.text)))
+
+    def test_all_sizes_at_once(self):
+        """The same, if only the sizes to 14 are looked at one by one, where most programs fail."""
+        draw = drawing(249)
+        late = 0
+        plains = [fails_late(number, draw)[0] for number in range(9, 19)]
+        for plain in plains + [mended_plain(draw, closed_plain(draw), 4) for _ in range(60)]:
+            program = Program(plain.text)
+            told = wrong_at(program)
+            with mock.patch("everyorder.always.FIRST_SIZES", 14):
+                self.assertEqual(wrong_at(program), told, plain.text)
+            late += told is not None and told.size > 14
+        self.assertGreater(late, 5)
+
+    def test_doubles_of_far_levels(self):
+        """The calls of a level that is not whole, if all beneath are, by plain lists."""
+        draw = drawing(250)
+        seen = {}
+        for at in range(60):
+            plain = closed_plain(draw)
+            if at % 2:
+                beneath = draw.choice((f"same exchange {draw.choice(PLACES)} {draw.choice(PLACES)}",
+                                       "same exchange 0 -1", "same roll 0 -1 1 to the end"))
+                plain = Plain([beneath, f"along {draw.choice(FACTORS)} {draw.choice(PLACES)}"], {})
+            program, levels = Program(plain.text), FarLevels(plain)
+            for k in (*range(14, 30), 44, 45, 120, 121):
+                beneath = levels.doing(k - 1)
+                if beneath is None or levels.is_whole(k):
+                    continue
+                things = last_things(plain, k, beneath)[0]
+                again = next(d for d in range(k) if things[d] in things[:d])
+                self.assertEqual(triple(double_far(program, k)), (k, things.index(things[again]), again))
+                kind = split_level(plain.level(k))[0][0]
+                seen[kind, k > 100] = seen.get((kind, k > 100), 0) + 1
+        self.assertTrue(all(seen.get(key, 0) > 5 for key in itertools.product(("same", "along"), (True, False))), seen)
 
     def test_with_double(self):
         """[11] tells the same as far as it goes."""

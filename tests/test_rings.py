@@ -5,7 +5,7 @@ import unittest
 from math import gcd
 
 from everyorder.errors import BadPlace, Mixed
-from everyorder.rings import in_one_ring, is_odd, is_one_ring, ring_at, rings_of
+from everyorder.rings import in_one_ring, is_odd, is_one_ring, ring_at, ring_either_way, rings_of
 from everyorder.runs import exchange_runs, nothing_runs, roll_runs, runs_of, runs_of_list, wider_runs
 from everyorder.words import Word
 from helping import NO_INTEGERS, assert_raises
@@ -262,6 +262,21 @@ class TurnTest(unittest.TestCase):
                     found[(told, size % 2)] = found.get((told, size % 2), 0) + 1
         for kind in itertools.product((True, False), (0, 1)):
             self.assertGreater(found.get(kind, 0), 0, kind)
+
+    def test_the_ring_of_a_place(self):
+        """What is told of runs that go either way, as wrong_at asks for it."""
+        draw = drawing(94)
+        ways = set()
+        for text in TURN_WORDS + ("roll 0 -1 3", "roll 1 half 2 then exchange 0 -1"):
+            for size in (*range(2, 30), *range(99, 261, 7)):
+                row = Word(text).at(size)
+                runs = runs_of(Word(text), size)
+                for place in {0, size // 2, size - 1, draw.randrange(size)}:
+                    self.assertEqual(ring_either_way(runs, place), len(ring_of(row, place)), (text, size, place))
+                ways.add((runs.way, size % 2))
+        self.assertEqual(len(ways), 4)
+        self.assertEqual([ring_either_way(runs_of(Word("turn"), MOST), place) for place in (0, 7, MOST - 1)], [2, 2, 2])
+        self.assertEqual(ring_either_way(runs_of(Word("turn"), MOST - 1), MOST // 2 - 1), 1)
 
     def test_far(self):
         for text in TURN_WORDS:
