@@ -82,9 +82,10 @@ def step_pieces(ruling, size, reach):
 
 
 def pieces_between(program, k, size, reach):
-    """Return the pieces of a step, behind the step of the level beneath, taken back if that level does not go on to it.
+    """Return the pieces of the step of the level beneath, taken back, and behind it those of the step of the level.
 
-    The size is straight; the levels are those of size k.
+    If the level beneath goes to the end, it has done its step, and the step of the level stands alone. The size is
+    straight; the levels are those of size k. Two levels are alike exactly if these pieces are and the factors are.
     """
     last = minus(size, ONE)
     beneath = program.level(k - 1)
